@@ -775,7 +775,7 @@ func searches(a impl.Arm, joints []int, target impl.Point) [][]int {
 	}
 }
 
-func fill(list []int, value int) {
+func fill[T any](list []T, value T) {
 	for k := range list {
 		list[k] = value
 	}
