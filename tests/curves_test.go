@@ -35,11 +35,11 @@ func reversedPoints(list []impl.Point) []impl.Point {
 	return other
 }
 
-// eachCurveOf calls a function with all curves of the given points, with 1 to
-// MaxControls control points.
-func eachCurveOf(points []impl.Point, call func(list []impl.Point)) {
+// eachListOf calls a function with all lists of 1 to most of the given points,
+// also those with equal points.
+func eachListOf(points []impl.Point, most int, call func(list []impl.Point)) {
 	lists := [][]impl.Point{nil}
-	for range mostControl {
+	for range most {
 		var longer [][]impl.Point
 		for _, list := range lists {
 			for _, p := range points {
@@ -53,19 +53,19 @@ func eachCurveOf(points []impl.Point, call func(list []impl.Point)) {
 	}
 }
 
-// scatteredCurves have coordinates of either sign, large and small, that follow
-// no simple rule.
-func scatteredCurves() [][]impl.Point {
+// scatteredLists have 1 to most points each, with coordinates of either sign,
+// large and small, that follow no simple rule.
+func scatteredLists(n int, most int) [][]impl.Point {
 	next := 1
 	coordinate := func(bound int) int {
 		next = next * 48271 % 2147483647
 		return next%(2*bound+1) - bound
 	}
 	var lists [][]impl.Point
-	for k := range 400 {
-		bound := []int{3, 70, 1000, greatest}[k/mostControl%4]
+	for k := range n {
+		bound := []int{3, 70, 1000, greatest}[k/most%4]
 		var list []impl.Point
-		for range k%mostControl + 1 {
+		for range k%most + 1 {
 			list = append(list, point(coordinate(bound), coordinate(bound)))
 		}
 		lists = append(lists, list)
@@ -73,12 +73,16 @@ func scatteredCurves() [][]impl.Point {
 	return lists
 }
 
+func scatteredCurves() [][]impl.Point {
+	return scatteredLists(400, mostControl)
+}
+
 // eachCurve calls a function with valid curves: all curves of the corners and
 // the middle of the range of the coordinates, all curves of small points, which
 // include those with equal control points, and scattered ones.
 func eachCurve(call func(list []impl.Point)) {
-	eachCurveOf(pointsOf(-greatest, -greatest, greatest, -greatest, -greatest, greatest, greatest, greatest, 0, 0), call)
-	eachCurveOf(pointsOf(-3, 1, -1, 2, 0, -2, 1, 0, 2, -1), call)
+	eachListOf(pointsOf(-greatest, -greatest, greatest, -greatest, -greatest, greatest, greatest, greatest, 0, 0), mostControl, call)
+	eachListOf(pointsOf(-3, 1, -1, 2, 0, -2, 1, 0, 2, -1), mostControl, call)
 	for _, list := range scatteredCurves() {
 		call(list)
 	}

@@ -27,14 +27,20 @@ func point(x int, y int) impl.Point {
 	return impl.Point{X: x, Y: y}
 }
 
-func samplePoints() []impl.Point {
+// gridOf are all points with these coordinates, by ascending X and then Y if the
+// coordinates are ascending.
+func gridOf(coordinates ...int) []impl.Point {
 	var list []impl.Point
-	for _, x := range within {
-		for _, y := range within {
+	for _, x := range coordinates {
+		for _, y := range coordinates {
 			list = append(list, point(x, y))
 		}
 	}
 	return list
+}
+
+func samplePoints() []impl.Point {
+	return gridOf(within...)
 }
 
 // invalidPoints have one coordinate out of range, or both.
@@ -223,20 +229,7 @@ func checkOrder(t *testing.T, a impl.Point, b impl.Point, c impl.Point) {
 
 // Promise 24.
 func TestOrdersAreCyclic(t *testing.T) {
-	var grid []impl.Point
-	for x := -2; x <= 2; x++ {
-		for y := -2; y <= 2; y++ {
-			grid = append(grid, point(x, y))
-		}
-	}
-	ends := []int{-greatest, -greatest + 1, 0, greatest - 1, greatest}
-	var corners []impl.Point
-	for _, x := range ends {
-		for _, y := range ends {
-			corners = append(corners, point(x, y))
-		}
-	}
-	for _, list := range [][]impl.Point{grid, corners} {
+	for _, list := range [][]impl.Point{gridOf(-2, -1, 0, 1, 2), gridOf(-greatest, -greatest+1, 0, greatest-1, greatest)} {
 		for _, a := range list {
 			for _, b := range list {
 				for _, c := range list {
