@@ -116,8 +116,8 @@ func wantedRows(w wantedDrive, m move, top int) [][]int {
 	return rows
 }
 
-func equalRows(a [][]int, b [][]int) bool {
-	return slices.EqualFunc(a, b, slices.Equal[[]int])
+func equalRows[T comparable](a [][]T, b [][]T) bool {
+	return slices.EqualFunc(a, b, slices.Equal[[]T])
 }
 
 // eachMove calls a function with all sample moves and all limits.
@@ -354,8 +354,8 @@ func (m move) lists() [][]int {
 	return [][]int{whole(m.arm.Links), whole(m.arm.Low), whole(m.arm.High), whole(m.from), whole(m.to)}
 }
 
-func copyRows(rows [][]int) [][]int {
-	var list [][]int
+func copyRows[T any](rows [][]T) [][]T {
+	var list [][]T
 	for _, row := range rows {
 		list = append(list, slices.Clone(row))
 	}

@@ -116,9 +116,9 @@ func placed(list []impl.Point, factor int, by impl.Point) []impl.Point {
 }
 
 // eachPart calls a function with all parts of a list, in order.
-func eachPart(list []impl.Point, call func(part []impl.Point)) {
+func eachPart[T any](list []T, call func(part []T)) {
 	for set := range 1 << len(list) {
-		var part []impl.Point
+		var part []T
 		for k, p := range list {
 			if set>>k&1 == 1 {
 				part = append(part, p)
