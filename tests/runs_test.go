@@ -233,23 +233,28 @@ func TestRunMotorOfInvalidArguments(t *testing.T) {
 	}
 }
 
-// Promise 77. Angles of one run may be overwritten, with their spare capacity,
-// without an effect on another one.
+// checkNumbersMemory overwrites a result together with its spare capacity.
+func checkNumbersMemory(t *testing.T, name string, numbers func() []int) {
+	kept, changed := numbers(), numbers()
+	want := slices.Clone(kept)
+	fill(whole(changed), 77777)
+	if !slices.Equal(kept, want) || !slices.Equal(numbers(), want) {
+		t.Errorf("two results of %s with %d numbers share memory", name, len(want))
+	}
+	fill(whole(kept), 88888)
+	if !isFilled(whole(changed), 77777) {
+		t.Errorf("two results of %s with %d numbers share memory", name, len(want))
+	}
+}
+
+// Promise 77. Angles of one run may be overwritten without an effect on another
+// one.
 func TestRunsShareNoMemory(t *testing.T) {
 	runs, motors := longRuns()
 	for _, r := range runs {
 		for _, m := range motors {
 			for _, steps := range []int{0, 1, 7, manyRows} {
-				kept, changed := r.angles(m, steps), r.angles(m, steps)
-				want := slices.Clone(kept)
-				fill(whole(changed), 77777)
-				if !slices.Equal(kept, want) || !slices.Equal(r.angles(m, steps), want) {
-					t.Errorf("two results of RunMotor(%v, %v, %d) share memory", m, r, steps)
-				}
-				fill(whole(kept), 88888)
-				if slices.ContainsFunc(whole(changed), func(n int) bool { return n != 77777 }) {
-					t.Errorf("two results of RunMotor(%v, %v, %d) share memory", m, r, steps)
-				}
+				checkNumbersMemory(t, "RunMotor", func() []int { return r.angles(m, steps) })
 			}
 		}
 	}
