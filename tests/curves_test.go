@@ -35,15 +35,15 @@ func reversedPoints(list []impl.Point) []impl.Point {
 	return other
 }
 
-// eachListOf calls a function with all lists of 1 to most of the given points,
-// also those with equal points.
-func eachListOf(points []impl.Point, most int, call func(list []impl.Point)) {
-	lists := [][]impl.Point{nil}
+// eachListOf calls a function with all lists of 1 to most of the given elements,
+// also those with equal elements.
+func eachListOf[T any](elements []T, most int, call func(list []T)) {
+	lists := [][]T{nil}
 	for range most {
-		var longer [][]impl.Point
+		var longer [][]T
 		for _, list := range lists {
-			for _, p := range points {
-				longer = append(longer, append(slices.Clone(list), p))
+			for _, e := range elements {
+				longer = append(longer, append(slices.Clone(list), e))
 			}
 		}
 		lists = longer
